@@ -4,6 +4,7 @@ Tables are kept by length and then by place: costs[n][i] is the cost of the n st
 A way is a tuple: its kind, its period or k (else 0), its cost.
 """
 
+from knittext.rows import has_period, is_mirrored
 from knittext.texts import (
     ANGLE_CLOSING,
     ANGLE_OPENING,
@@ -20,14 +21,6 @@ PERIOD = 1
 EVEN_MIRROR = 2
 ODD_MIRROR = 3
 SPLIT = 4
-
-
-def has_period(stitches, period):
-    return len(stitches) % period == 0 and stitches[period:] == stitches[:len(stitches) - period]
-
-
-def is_mirrored(stitches):
-    return stitches == list(reversed(stitches))
 
 
 def first_half(length):

@@ -4,6 +4,7 @@ What stands here shares no code with the package but `answers` itself.
 """
 
 import heapq
+import itertools
 from functools import lru_cache
 
 from knittext.pattern import answers
@@ -78,6 +79,41 @@ def ways(i, n):
 
 
 RUNS = [10]
+REPEAT = [11]
+MIRRORED = [12]
+
+
+def change(i, c):
+    return [13, i, c]
+
+
+def insert(i, c):
+    return [14, i, c]
+
+
+def remove(i):
+    return [15, i]
+
+
+REVERSE = [16]
+
+
+def unroll(text):
+    return listed(17, bytes_of(text))
+
+
+def more(text):
+    return listed(18, bytes_of(text))
+
+
+DOUBLE = [19]
+
+
+def swap(one, other):
+    return [20, one, other]
+
+
+SIZES = [21]
 
 
 def ask(*calls):
@@ -302,6 +338,156 @@ def judged_right(row, weighed, numbers):
             if most > told[i, k] + told[i + k, n - k]:
                 return False
     return True
+
+
+# The longest repeat and mirror, by a search through all stretches in the order of their places
+
+def reference_repeat(row):
+    """Place, least period, how often; or None."""
+    found, longest = None, 0
+    for i in range(len(row)):
+        for end in range(i + 2, len(row) + 1):
+            part = row[i:end]
+            times = [t for t in range(2, len(part) + 1) if part[:len(part) // t] * t == part]
+            if times and len(part) > longest:
+                longest = len(part)
+                found = [i, len(part) // max(times), max(times)]
+    return found
+
+
+def reference_mirrored(row):
+    """Place, length; or None of the empty row."""
+    found = None
+    for i in range(len(row)):
+        for end in range(i + 1, len(row) + 1):
+            if row[i:end] == row[i:end][::-1] and (found is None or end - i > found[1]):
+                found = [i, end - i]
+    return found
+
+
+# All calls once more, on a row that is written as letters
+
+BYTES = (0, 400, 0, 255)
+# For each list: the least and the most numbers, the least and the greatest number.
+LISTS = {1: (1, 40, 0, 25), 2: BYTES, 5: BYTES, 8: (0, 820, 0, 1000), 17: BYTES, 18: BYTES}
+STITCH = (0, 25)
+PLACE = (0, 39)
+RANGES = {0: ((1, 9), (0, 9), (0, 9), (0, 9)), 6: (PLACE, (1, 40)), 9: (PLACE, (1, 40)), 13: (PLACE, STITCH),
+          14: ((0, 40), STITCH), 15: (PLACE,), 20: (STITCH, STITCH)}
+
+
+def in_range(call):
+    if call[0] in LISTS:
+        fewest, most, least, greatest = LISTS[call[0]]
+        return fewest <= len(call) - 2 <= most and all(least <= number <= greatest for number in call[2:])
+    ranges = RANGES.get(call[0], ())
+    return all(least <= number <= greatest for number, (least, greatest) in zip(call[1:], ranges, strict=True))
+
+
+def letters_of(stitches):
+    return "".join("abcdefghijklmnopqrstuvwxyz"[stitch] for stitch in stitches)
+
+
+class SecondPattern:
+    """Takes one call after another and answers each as the document's words say."""
+
+    def __init__(self):
+        self.row = ""
+        self.weighed = ONES
+
+    def due(self, call):
+        """Every refusal that is due, a text's fault being no refusal."""
+        number, length = call[0], len(self.row)
+        found = [] if in_range(call) else [-1]
+        if number in (4, 6, 7, 8, 9, 12) and length == 0:
+            found.append(-2)
+        if number in (6, 9) and call[1] + call[2] > length:
+            found.append(-3)
+        if number in (13, 15) and call[1] >= length or number == 14 and call[1] > length:
+            found.append(-3)
+        if number == 8 and len(call) - 2 != length * (length + 1) // 2:
+            found.append(-6)
+        if number == 14 and length + 1 > 40 or number == 19 and length * 2 > 40:
+            found.append(-8)
+        if number == 18 and not found:
+            fault, parts = reference_read(bytes(call[2:]).decode("latin-1"))
+            if not fault and length + length_of(parts) > 40:
+                found.append(-8)
+        return found
+
+    def answer(self, call):
+        refusals = self.due(call)
+        if refusals:
+            return [max(refusals)]
+        if call[0] in (2, 5, 17, 18):
+            return [0] + self.by_text(call[0], bytes(call[2:]).decode("latin-1"))
+        if call[0] in (0, 1, 13, 14, 15, 16, 19, 20):
+            return [0] + self.by_change(call[0], call[1:])
+        return [0] + self.by_look(call[0], call[1:])
+
+    def by_text(self, number, text):
+        fault, parts = reference_read(text)
+        if fault:
+            return fault
+        told = unrolled(parts)
+        if number == 2:
+            self.row = told
+            return [0, len(told), text_cost(text, self.weighed)]
+        if number == 5:
+            return reference_cost(text, self.row, self.weighed)[1:]
+        if number == 17:
+            return [0] + stitches_of(told)
+        self.row += told
+        return [0, len(self.row)]
+
+    def by_change(self, number, given):
+        row = stitches_of(self.row)
+        back = []
+        if number == 0:
+            self.weighed = tuple(given)
+        elif number == 1:
+            row = given[1:]
+        elif number == 13:
+            back, row[given[0]] = [row[given[0]]], given[1]
+        elif number == 14:
+            row.insert(*given)
+            back = [len(row)]
+        elif number == 15:
+            back = [row.pop(given[0])]
+        elif number == 16:
+            row.reverse()
+        elif number == 19:
+            row += list(row)
+            back = [len(row)]
+        else:
+            row = [given[1] if stitch == given[0] else given[0] if stitch == given[1] else stitch for stitch in row]
+        self.row = letters_of(row)
+        return back
+
+    def by_look(self, number, given):
+        row, weighed = self.row, self.weighed
+        if number == 3:
+            return stitches_of(row)
+        if number == 4:
+            text = reference_text(row, weighed)
+            return [least_cost(row, weighed), depth_of(reference_read(text)[1])] + bytes_of(text)
+        if number in (6, 9):
+            part = row[given[0]:given[0] + given[1]]
+            if number == 9:
+                return flat(reference_ways(part, weighed))
+            return [least_cost(part, weighed)] + bytes_of(reference_text(part, weighed))
+        if number == 7:
+            return reference_table(row, weighed)
+        if number == 8:
+            return [int(judged_right(row, weighed, given[1:]))]
+        if number == 10:
+            return flat([ord(letter) - 97, len(list(lot))] for letter, lot in itertools.groupby(row))
+        if number == 11:
+            found = reference_repeat(row)
+            return [1] + found if found else [0]
+        if number == 12:
+            return reference_mirrored(row)
+        return list(weighed) + [len(row), len(frozenset(row)), sum(weighed[0] for letter in row)]
 
 
 # A search that knows nothing of ways: it puts texts together, the cheapest first

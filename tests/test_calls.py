@@ -3,8 +3,8 @@
 import unittest
 
 from tests.helper import (
-    GREATEST, ONES, RUNS, SHORTEST, TABLE, TELL, ask, bytes_of, cost, last, listed, proves, read, stretch, weights,
-    ways, word,
+    DOUBLE, GREATEST, MIRRORED, ONES, REPEAT, RUNS, SHORTEST, SIZES, TABLE, TELL, ask, bytes_of, change, cost, insert,
+    last, listed, more, proves, read, remove, stretch, swap, unroll, weights, ways, word,
 )
 
 DISTINCT_40 = list(range(26)) + list(range(14))
@@ -103,7 +103,8 @@ class OrdinaryCalls(unittest.TestCase):
             self.assertEqual(ask(word(row), RUNS, TELL)[1], [0] + expected, row)
 
     def test_calls_that_only_ask_leave_all(self):
-        asked = (TELL, SHORTEST, cost("abc"), cost("(("), stretch(1, 3), TABLE, proves([0] * 15), ways(0, 5), RUNS)
+        asked = (TELL, SHORTEST, cost("abc"), cost("(("), stretch(1, 3), TABLE, proves([0] * 15), ways(0, 5), RUNS,
+                 REPEAT, MIRRORED, unroll("abc"), unroll("(("), SIZES)
         seen = ask(weights(3, 1, 2, 1), word("aabaa"), *asked, *asked)[2:]
         self.assertEqual(seen[:len(asked)], seen[len(asked):])
         for call in asked:
@@ -177,7 +178,7 @@ def refused_calls():
             for stitches in ([3], [3, 4, 5], full):
                 for values in spoiled(stitches, wrong):
                     yield row, word(values), -1
-        for number in (2, 5):
+        for number in (2, 5, 17, 18):
             yield row, listed(number, [97] * 401), -1
             yield row, listed(number, [0] * 900), -1
             for wrong in beyond(0, 255):
@@ -191,6 +192,20 @@ def refused_calls():
             for wrong in beyond(1, 40):
                 for i in (0, 39, -1, 40):
                     yield row, call(i, wrong), -1
+        # Whether there is such a place, or room for one stitch more, does not count beside a wrong number.
+        for call, last_place in ((change, 39), (insert, 40)):
+            for wrong in beyond(0, last_place):
+                for c in (0, 25, -1, 26):
+                    yield row, call(wrong, c), -1
+            for wrong in beyond(0, 25):
+                for i in (0, 3, last_place, -1, last_place + 1):
+                    yield row, call(i, wrong), -1
+        for wrong in beyond(0, 39):
+            yield row, remove(wrong), -1
+        for wrong in beyond(0, 25):
+            for right in (0, 1, 25, wrong):
+                yield row, swap(wrong, right), -1
+                yield row, swap(right, wrong), -1
         yield row, proves([0] * 821), -1
         yield row, proves([0] * 900), -1
         for wrong in beyond(0, 1000):
@@ -198,7 +213,7 @@ def refused_calls():
                 for values in spoiled([0] * count, wrong):
                     yield row, proves(values), -1
     for call in (SHORTEST, TABLE, stretch(0, 1), stretch(39, 40), stretch(0, 40), ways(0, 1), ways(39, 40),
-                 ways(0, 40), proves([]), proves([0]), proves([0] * STRETCHES_40)):
+                 ways(0, 40), proves([]), proves([0]), proves([0] * STRETCHES_40), MIRRORED):
         yield None, call, -2
     for call in (stretch, ways):
         for i, n in ((0, 6), (5, 1), (4, 2), (39, 1), (0, 40), (39, 40), (1, 5)):
@@ -207,6 +222,24 @@ def refused_calls():
             yield full, call(i, n), -3
         yield "a", call(1, 1), -3
         yield "a", call(0, 2), -3
+    for row, length in ((None, 0), ("a", 1), ("abcab", 5), (full[:39], 39)):
+        for i in {length, length + 1, 20, 39}:
+            if length <= i < 40:
+                yield row, change(i, 0), -3
+                yield row, change(i, 25), -3
+                yield row, remove(i), -3
+        for i in {length + 1, length + 2, 30, 40}:
+            if length < i <= 40:
+                yield row, insert(i, 0), -3
+                yield row, insert(i, 25), -3
+    for i in (0, 1, 20, 39, 40):
+        yield full, insert(i, 0), -8
+        yield full, insert(i, 25), -8
+    for row, text in ((full, "a"), (full, "(ab)20"), (full[:39], "ab"), (full[:39], "a2"), ("a", "a40"), (full, "[a]"),
+                      ("abcab", "<a18>"), (full[:20], "(abc)7")):
+        yield row, more(text), -8
+    for row in (full[:21], full[:30], full[:39], full):
+        yield row, DOUBLE, -8
     for row, counts in (("abcab", (0, 1, 14, 16, 819, 820)), ("a", (0, 2, 820)), (full, (0, 1, 819))):
         for count in counts:
             yield row, proves([0] * count), -6
@@ -214,7 +247,7 @@ def refused_calls():
 
 class Refusals(unittest.TestCase):
     def test_refused_with_the_number_nearest_to_0_and_nothing_changed(self):
-        look = (TELL, cost("(a2)3<bcd>"), cost("abcab"), RUNS, SHORTEST)
+        look = (TELL, cost("(a2)3<bcd>"), cost("abcab"), RUNS, SHORTEST, SIZES)
         before = {}
         seen = set()
         for row, call, refusal in refused_calls():
@@ -228,15 +261,18 @@ class Refusals(unittest.TestCase):
                     self.fail(f"row {row}, weights {weighed}, call {call}: {found}")
                 seen.add((call[0], refusal))
         self.assertEqual(seen, {(0, -1), (1, -1), (2, -1), (4, -2), (5, -1), (6, -1), (6, -2), (6, -3), (7, -2),
-                                (8, -1), (8, -2), (8, -6), (9, -1), (9, -2), (9, -3)})
+                                (8, -1), (8, -2), (8, -6), (9, -1), (9, -2), (9, -3), (12, -2), (13, -1),
+                                (13, -3), (14, -1), (14, -3), (14, -8), (15, -1), (15, -3), (17, -1), (18, -1),
+                                (18, -8), (19, -8), (20, -1)})
 
     def test_refused_on_a_list_that_has_just_begun(self):
         for row, call, refusal in refused_calls():
             if row is None:
-                self.assertEqual(ask(call, TELL, cost("(a)2<b>")), [[refusal], [0], [0, 0, 5, 0, 1]], call)
+                self.assertEqual(ask(call, TELL, cost("(a)2<b>"), SIZES),
+                                 [[refusal], [0], [0, 0, 5, 0, 1], [0, 1, 1, 1, 1, 0, 0, 0]], call)
 
     def test_a_wrong_number_is_answered_ahead_of_a_fault(self):
-        for number in (2, 5):
+        for number in (2, 5, 17, 18):
             self.assertEqual(ask(listed(number, [33, 256]), listed(number, [33] * 401), listed(number, [33, -1])),
                              [[-1], [-1], [-1]])
 
@@ -246,6 +282,25 @@ class Refusals(unittest.TestCase):
                 proves([1, 1]), proves([1, 1, 2]), ways(2, 1), ways(0, 2)),
             [[-2], [0], [-1], [0, 2, 0, 97, 98], [-1], [0, 1, 1, 2], [-3], [0, 1, 98], [-6], [0, 1], [-3],
              [0, 4, 1, 2]])
+        self.assertEqual(
+            ask(MIRRORED, remove(0), change(0, 1), insert(1, 3), insert(0, 3), remove(1), change(1, 4), change(0, 26),
+                swap(3, 26), TELL, more("b40"), more("b39"), insert(40, 0), DOUBLE, more("c"), remove(39), insert(39, 0),
+                RUNS),
+            [[-2], [-3], [-3], [-3], [0, 1], [-3], [-3], [-1], [-1], [0, 3], [-8], [0, 0, 40], [-8], [-8], [-8],
+             [0, 1], [0, 40], [0, 3, 1, 1, 38, 0, 1]])
+
+    def test_several_due(self):
+        full = word(DISTINCT_40)
+        for calls, refusal in (
+                # -1 and -3
+                ([change(39, 26)], -1), ([change(40, 0)], -1), ([insert(40, 26)], -1), ([insert(41, 0)], -1),
+                ([remove(40)], -1), ([word("a"), change(1, -1)], -1), ([word("a"), insert(2, -1)], -1),
+                # -1 and -8
+                ([full, insert(0, 26)], -1), ([full, insert(40, -1)], -1), ([full, insert(-1, 0)], -1),
+                ([full, more([256])], -1), ([full, more([97] * 401)], -1),
+                # -1, -3 and -8: a place beyond 40 is none of a row of 40
+                ([full, insert(41, 0)], -1), ([full, insert(41, 26)], -1), ([full, insert(GREATEST, GREATEST)], -1)):
+            self.assertEqual(last(*calls), [refusal], calls)
 
 
 if __name__ == "__main__":

@@ -4,8 +4,9 @@ import itertools
 import unittest
 
 from tests.helper import (
-    SHORTEST, SOME_WEIGHTS, TABLE, TELL, Jumps, ask, cheapest_of_all, cost, made_up_rows, proves, read, stitches_of,
-    stretch, stretches, text_cost, text_of, weights, word,
+    DOUBLE, REVERSE, SHORTEST, SOME_WEIGHTS, TABLE, TELL, Jumps, ask, change, cheapest_of_all, cost, insert, last,
+    letters_of, made_up_rows, made_up_text, more, proves, read, remove, stitches_of, stretch, stretches, swap,
+    text_cost, text_of, unroll, weights, word,
 )
 
 
@@ -141,6 +142,77 @@ class ThirdPromise(unittest.TestCase):
             table = ask(word(row), TABLE)[1][1:]
             for p in range(len(table)):
                 self.assertEqual(ask(word(row), proves(table[:p] + [table[p] + 1] + table[p + 1:]))[1], [0, 0])
+
+
+def some_changes(jumps):
+    """Calls that make a row out of the empty one; some of them may be refused."""
+    calls = [more(made_up_text(jumps, "abc", 2))]
+    for _ in range(1 + jumps.below(8)):
+        i, c = jumps.below(20), jumps.below(4)
+        calls.append(jumps.one_of((change(i, c), insert(i, c), remove(i), REVERSE, DOUBLE, swap(c, jumps.below(4)),
+                                   more(made_up_text(jumps, "ab", 2)), insert(0, c), change(0, c), remove(0))))
+    return calls
+
+
+class RowsThatOtherCallsHaveMade(unittest.TestCase):
+    """Promises 1 to 3 once more, behind the calls that change a row."""
+
+    def made(self):
+        """Weights, the calls that made a row, and the row: not the empty one."""
+        jumps = Jumps(51)
+        seen = 0
+        for place in range(250):
+            weighed = SOME_WEIGHTS[place % len(SOME_WEIGHTS)]
+            calls = [weights(*weighed)] + some_changes(jumps)
+            row = last(*calls, TELL)[1:]
+            if row:
+                seen += 1
+                yield weighed, calls, row
+        self.assertGreater(seen, 200)
+
+    def test_the_told_text_tells_the_row_and_costs_what_the_table_says(self):
+        for weighed, calls, row in self.made():
+            table, told = ask(*calls, TABLE, SHORTEST)[-2:]
+            text = told[3:]
+            expected = [[0, 0, table[-1], 1, depth_by_signs(text)], [0, 0] + row, [0, 0, len(row), table[-1]], [0] + row]
+            self.assertEqual(told[:3], [0, table[-1], depth_by_signs(text)], calls)
+            self.assertEqual(ask(*calls, cost(text), unroll(text), read(text), TELL)[-4:], expected, calls)
+
+    def test_told_as_if_the_row_had_been_handed_in(self):
+        for weighed, calls, row in self.made():
+            self.assertEqual(ask(*calls, TABLE, SHORTEST)[-2:], ask(weights(*weighed), word(row), TABLE, SHORTEST)[2:])
+
+    def test_no_text_costs_less(self):
+        least = {weighed: cheapest_of_all("abcd", 5, weighed) for weighed in SOME_WEIGHTS}
+        compared = 0
+        for weighed, calls, row in self.made():
+            if len(row) <= 5:
+                compared += 1
+                self.assertEqual(last(*calls, SHORTEST)[1], least[weighed][letters_of(row)], calls)
+        self.assertGreater(compared, 20)
+
+    def test_the_text_that_was_put_behind_costs_no_less(self):
+        jumps = Jumps(53)
+        compared = 0
+        for place in range(100):
+            weighed = SOME_WEIGHTS[place % len(SOME_WEIGHTS)]
+            text = made_up_text(jumps, "abc", 2)
+            for whole, calls in ((text, [more(text)]), (text + "z", [more(text), more("z")]),
+                                 ("(" + text + ")2", [more(text), DOUBLE]), ("a" + text, [more(text), insert(0, 0)])):
+                found = ask(weights(*weighed), *calls, cost(whole), SHORTEST)
+                if found[-2][1] == 0:
+                    compared += 1
+                    self.assertEqual(found[-2][3], 1, whole)
+                    self.assertLessEqual(found[-1][1], found[-2][2], (whole, weighed))
+        self.assertGreater(compared, 250)
+
+    def test_the_told_table_is_right_and_none_that_says_more(self):
+        for weighed, calls, row in self.made():
+            table = last(*calls, TABLE)[1:]
+            raised = [table[:p] + [table[p] + 1] + table[p + 1:] for p in range(0, len(table), 1 + len(table) // 8)]
+            raised.append(table[:-1] + [table[-1] + 1])
+            found = ask(*calls, proves(table), *[proves(other) for other in raised])
+            self.assertEqual(found[len(calls):], [[0, 1]] + [[0, 0]] * len(raised), calls)
 
 
 if __name__ == "__main__":

@@ -1,11 +1,11 @@
-"""Texts by `read` and `cost`: what they tell and cost, and the first fault."""
+"""Texts by `read`, `cost`, `unroll` and `more`: what they tell and cost, and the first fault."""
 
 import itertools
 import unittest
 
 from tests.helper import (
-    ONES, SOME_WEIGHTS, TELL, Jumps, ask, bytes_of, cost, last, made_up_text, read, reference_cost, reference_read,
-    stitches_of, unrolled, weights, word,
+    ONES, SIZES, SOME_WEIGHTS, TELL, Jumps, ask, bytes_of, cost, last, made_up_text, more, read, reference_cost,
+    reference_read, stitches_of, unroll, unrolled, weights, word,
 )
 
 EIGHT = "[[[[[[[[a]]]]]]]]"
@@ -107,6 +107,20 @@ class RightTexts(unittest.TestCase):
                         [[0], [0, 0, costs, 0, depth], [0], [0, 0, costs, 1, depth], [0], [0, 0, costs, 0, depth],
                          [0, 16, 17]])
 
+    def test_unroll_tells_the_stitches_and_leaves_the_row(self):
+        for text, row, *_ in RIGHT:
+            with self.subTest(text=text):
+                self.assertEqual(ask(unroll(text), TELL, word("qr"), unroll(text), TELL),
+                                 [[0, 0] + stitches_of(row), [0], [0], [0, 0] + stitches_of(row), [0, 16, 17]])
+
+    def test_more_puts_the_stitches_behind_the_row(self):
+        for text, row, *_ in RIGHT:
+            long = len(row) + 2 > 40
+            with self.subTest(text=text):
+                self.assertEqual(ask(more(text), TELL), [[0, 0, len(row)], [0] + stitches_of(row)])
+                self.assertEqual(ask(word("qr"), more(text), TELL)[1:], [
+                    [-8] if long else [0, 0, len(row) + 2], [0, 16, 17] + ([] if long else stitches_of(row))])
+
     def test_like_rows_are_told_apart(self):
         for row in ("ab", "abc", "abb", "ba", "a", "b", "aba"):
             self.assertEqual(last(word("ab"), cost(row))[3], int(row == "ab"), row)
@@ -146,21 +160,34 @@ class FirstFaults(unittest.TestCase):
                     [[0, kind, place], [0, kind, place], [0], [0, kind, place], [0, 2, 0, 1], [0, kind, place],
                      [0, 0, 3, 1, 0]])
 
-    def test_a_fault_leaves_the_weights(self):
+    def test_faults_of_unroll_and_more(self):
+        full = "ab" * 20
         for text, kind, place in FAULTY:
+            fault = [0, kind, place]
             with self.subTest(text=text):
                 self.assertEqual(
-                    ask(weights(2, 3, 4, 5), read(text), cost("(a)2<b>")), [[0], [0, kind, place], [0, 0, 16, 0, 1]])
+                    ask(unroll(text), more(text), TELL, word("cab"), unroll(text), more(text), TELL, SIZES, word(full),
+                        unroll(text), more(text), TELL),
+                    [fault, fault, [0], [0], fault, fault, [0, 2, 0, 1], [0, *ONES, 3, 3, 3], [0], fault, fault,
+                     [0] + [0, 1] * 20])
+
+    def test_a_fault_leaves_the_weights(self):
+        for text, kind, place in FAULTY:
+            for call in (read, cost, unroll, more):
+                with self.subTest(text=text, call=call.__name__):
+                    self.assertEqual(
+                        ask(weights(2, 3, 4, 5), call(text), cost("(a)2<b>"), SIZES),
+                        [[0], [0, kind, place], [0, 0, 16, 0, 1], [0, 2, 3, 4, 5, 0, 0, 0]])
 
     def test_far_too_many_stitches(self):
         for text in far_too_long():
             with self.subTest(text=text):
                 length = len(text)
-                self.assertEqual(last(read(text)), [0, 3, length])
-                self.assertEqual(last(cost(text)), [0, 3, length])
-                # What is wrong in the text comes ahead of how much it tells.
-                self.assertEqual(last(read(text + "!")), [0, 1, length])
-                self.assertEqual(last(read(text + "a1")), [0, 2, length + 1])
+                for call in (read, cost, unroll, more):
+                    self.assertEqual(last(call(text)), [0, 3, length])
+                    # What is wrong in the text comes ahead of how much it tells.
+                    self.assertEqual(last(call(text + "!")), [0, 1, length])
+                    self.assertEqual(last(call(text + "a1")), [0, 2, length + 1])
 
     def test_each_byte_at_each_kind_of_place(self):
         letters = set(range(97, 123))
@@ -220,6 +247,8 @@ class AgainstASecondReader(unittest.TestCase):
             if not fault:
                 told += 1
                 self.assertEqual(last(read(text), TELL), [0] + stitches_of(unrolled(parts)), text)
+                self.assertEqual(last(unroll(text)), [0, 0] + stitches_of(unrolled(parts)), text)
+                self.assertEqual(last(more(text), TELL), [0] + stitches_of(unrolled(parts)), text)
         self.assertGreater(told, 100)
 
     def test_bytes_above_the_letters(self):
